@@ -1,0 +1,1 @@
+"""Conditions evaluated in batches, and which plans give the same result."""
