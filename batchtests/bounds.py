@@ -18,11 +18,20 @@ def free_bounds(terms):
     return {(term, term): 0 for term in terms}
 
 
-def tightened(bounds, literal):
-    """Return the bounds with the literal added, or None if no values keep them all."""
+def implies(bounds, literal):
+    """Tell whether all values that keep the bounds keep the literal."""
     a, b, n = literal
-    if (b, a) in bounds and bounds[(b, a)] + n < 0:
-        return None
+    return (a, b) in bounds and bounds[(a, b)] <= n
+
+
+def excludes(bounds, literal):
+    """Tell whether no values that keep the bounds keep the literal."""
+    return implies(bounds, opposite(literal))
+
+
+def tightened(bounds, literal):
+    """Return the bounds with the literal added, which they must not exclude."""
+    a, b, n = literal
     before = [(term, m) for (term, end), m in bounds.items() if end == a]
     after = [(term, m) for (start, term), m in bounds.items() if start == b]
     closer = {pair: m for pair, m in bounds.items()}

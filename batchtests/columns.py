@@ -1,6 +1,6 @@
 """The columns of a table and the check of a single row."""
 
-from batchtests.errors import BadColumns, NoRow
+from batchtests.errors import BadColumns, NoRow, Unlike
 from batchtests.kinds import is_integer, is_name
 
 MOST_COLUMNS = 4
@@ -42,3 +42,9 @@ class Columns:
 def is_value(value):
     """Tell whether a row may have this value in a column."""
     return value is None or is_integer(value)
+
+
+def check_alike(one, other):
+    """Raise Unlike if two objects that have columns have unlike ones."""
+    if one.columns != other.columns:
+        raise Unlike()

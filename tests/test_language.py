@@ -1,6 +1,7 @@
 """The rules of the language that a test can see at once, and the places of the interface."""
 
 import ast
+import builtins
 import os
 import unittest
 
@@ -15,6 +16,15 @@ INTERFACE = {
     },
     "columns.py": {"Columns": ("__init__", "row", "__len__", "__contains__", "__eq__")},
     "samples.py": {"samples": ()},
+    "rowsets.py": {
+        "RowSet": ("__init__", "cases", "some", "is_empty", "within", "__contains__", "__eq__", "__and__", "__or__",
+                   "__sub__", "__invert__"),
+        "all_rows": (), "no_rows": (),
+    },
+    "conditions.py": {
+        "Condition": ("__init__", "places", "literals", "codes", "__getitem__", "__contains__", "__eq__"),
+    },
+    "truths.py": {"truth": (), "truth_rows": (), "implied": (), "truth_difference": ()},
 }
 
 
@@ -65,6 +75,40 @@ class TestLanguage(unittest.TestCase):
                 self.assertIn(entry, defined)
                 for method in methods:
                     self.assertIn(method, self.defined(defined[entry]))
+
+    def test_no_name_has_two_meanings(self):
+        for name, text in sources().items():
+            tree = ast.parse(text)
+            taken = set(dir(builtins))
+            for node in tree.body:
+                if isinstance(node, ast.ImportFrom):
+                    taken.update(alias.name for alias in node.names)
+                elif isinstance(node, ast.ClassDef):
+                    taken.add(node.name)
+            for node in ast.walk(tree):
+                if isinstance(node, ast.arg):
+                    self.assertNotIn(node.arg, taken, name)
+                elif isinstance(node, ast.Name) and isinstance(node.ctx, ast.Store):
+                    self.assertNotIn(node.id, taken, name)
+
+    def test_no_two_files_import_each_other(self):
+        imports = {}
+        for name, text in sources().items():
+            nodes = [node for node in ast.parse(text).body if isinstance(node, ast.ImportFrom)]
+            imports[name] = {node.module.partition(".")[2] + ".py" for node in nodes}
+        while imports:
+            free = [name for name in imports if not imports[name] & set(imports)]
+            self.assertTrue(free, sorted(imports))
+            for name in free:
+                del imports[name]
+
+    def test_each_import_is_used(self):
+        for name, text in sources().items():
+            tree = ast.parse(text)
+            used = {node.id for node in ast.walk(tree) if isinstance(node, ast.Name)}
+            for node in tree.body:
+                if isinstance(node, ast.ImportFrom):
+                    self.assertLessEqual({alias.name for alias in node.names}, used, name)
 
     def defined(self, tree):
         found = {}
