@@ -1,7 +1,7 @@
 """Conditions: checked parts over columns."""
 
 from batchtests.errors import BadPart, NoPlace
-from batchtests.parts import fault_of, inner_parts, literal_of, part_at, places_in
+from batchtests.parts import codes_in, fault_of, inner_parts, literal_of, part_at, places_in
 
 
 class Condition:
@@ -24,8 +24,7 @@ class Condition:
 
     def codes(self):
         """Return the ascending list of the unlike codes."""
-        parts = [self[place] for place in self.places()]
-        return sorted({part[1] for part in parts if part[0] == "must"})
+        return codes_in(self.part)
 
     def __getitem__(self, place):
         found = part_at(self.part, place)

@@ -96,3 +96,9 @@ def places_in(part, place):
     for index, inside in enumerate(inner_parts(part)):
         found.extend(places_in(inside, (*place, index)))
     return found
+
+
+def codes_in(part):
+    """Return the ascending list of the unlike codes of the part and of all parts inside it."""
+    parts = [part_at(part, place) for place in places_in(part, ())]
+    return sorted({inside[1] for inside in parts if inside[0] == "must"})

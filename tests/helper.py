@@ -5,6 +5,7 @@ from itertools import product
 from batchtests.columns import Columns
 from batchtests.conditions import Condition
 from batchtests.errors import BatchError, NoRow
+from batchtests.plans import Plan
 from batchtests.rowsets import RowSet
 
 OTHER_OBJECTS = [
@@ -93,3 +94,179 @@ def random_part(chance, names, literals, depth, codes="xyz"):
     if word == "case":
         return ("case", tuple((inner(), inner()) for _ in range(chance.randint(1, 3))), inner())
     return (word, tuple(inner() for _ in range(chance.randint(1, 4))))
+
+
+def joined_places(condition):
+    """The places of the "and", "or" and "case" parts with their words and numbers of parts."""
+    found = {}
+    for place in condition.places():
+        part = condition[place]
+        if part[0] in ("and", "or", "case"):
+            found[place] = (part[0], len(part[1]))
+    return found
+
+
+def written_ways(condition):
+    """The ways and orders of the plain plan, at all places."""
+    found = {}
+    for place, (word, many) in joined_places(condition).items():
+        found[place] = ("lazy", None if word == "case" else tuple(range(many)))
+    return found
+
+
+def random_ways(chance, condition):
+    """Random ways and orders at all places."""
+    found = {}
+    for place, (word, many) in joined_places(condition).items():
+        if word == "case":
+            found[place] = (chance.choice(["lazy", "eager"]), None)
+        else:
+            found[place] = (chance.choice(["lazy", "eager", "deferred"]), tuple(chance.sample(range(many), many)))
+    return found
+
+
+class Stopped(Exception):
+    """A batch stopped at a place with a row and a code."""
+
+    def __init__(self, place, index, code):
+        self.place, self.index, self.code = place, index, code
+
+
+class Batch:
+    """A batch of rows by the rules of point 6.6, worked out for lists of rows (here: of indexes)."""
+
+    def __init__(self, part, ways, hoisted, rows):
+        self.ways, self.hoisted, self.rows = ways, hoisted, rows
+        self.visited, self.stops, self.stopped, self.truths = [], [], None, None
+        try:
+            self.truths = self.visit((), part, list(range(len(rows))), False)
+        except Stopped as stopped:
+            self.stopped = stopped
+
+    def fate(self):
+        """The fate of the row, if it is the only one."""
+        if self.stopped:
+            return ("fails", self.stopped.place, self.stopped.code)
+        return ("selected",) if self.truths[0] == "yes" else ("dropped",)
+
+    def result(self):
+        """The selected indexes, and None or the index and the code with which the batch stopped."""
+        if self.stopped:
+            return [], (self.stopped.index, self.stopped.code)
+        return [k for k in sorted(self.truths) if self.truths[k] == "yes"], None
+
+    def visit(self, place, part, passed, protected):
+        """The truths of the rows of the list of the place, by their indexes."""
+        self.visited.append(place)
+        listed = list(range(len(self.rows))) if place in self.hoisted else passed
+        word = part[0]
+        if word == "missing":
+            return {k: "yes" if self.rows[k][part[1]] is None else "no" for k in listed}
+        if word == "atmost":
+            return {k: self.test(part[1:], k) for k in listed}
+        if word == "not":
+            inside = self.visit(place + (0,), part[1], listed, protected)
+            return {k: {"yes": "no", "no": "yes"}.get(inside[k], inside[k]) for k in listed}
+        if word == "must":
+            return self.must(place, part, listed, protected)
+        if word == "case":
+            return self.case(place, part, listed, protected)
+        return self.joined(place, part, listed, protected)
+
+    def test(self, literal, k):
+        return {True: "yes", False: "no", None: "unknown"}[holds(self.rows[k], literal)]
+
+    def must(self, place, part, listed, protected):
+        required = {k: self.test(part[2], k) for k in listed}
+        if not protected:
+            self.stops.append(place)
+            for k in listed:
+                if required[k] == "no":
+                    raise Stopped(place, k, part[1])
+        inside = self.visit(place + (0,), part[3], [k for k in listed if required[k] == "yes"], protected)
+        other = {"no": ("fails", part[1]), "unknown": "unknown"}
+        return {k: inside[k] if required[k] == "yes" else other[required[k]] for k in listed}
+
+    def joined(self, place, part, listed, protected):
+        way, order = self.ways[place]
+        decides, otherwise = ("no", "yes") if part[0] == "and" else ("yes", "no")
+        inner = protected or way == "deferred"
+        seen = {k: [] for k in listed}
+        passed = listed
+        for index in order:
+            inside = self.visit(place + (index,), part[1][index], passed, inner)
+            for k in passed:
+                seen[k].append(inside[k])
+            if way == "lazy":
+                passed = [k for k in passed if inside[k] in ("unknown", otherwise)]
+        told = {k: self.together(seen[k], way, decides, otherwise) for k in listed}
+        if way == "deferred" and not protected:
+            self.stops.append(place)
+            for k in listed:
+                if type(told[k]) is tuple:
+                    raise Stopped(place, k, told[k][1])
+        return told
+
+    def together(self, seen, way, decides, otherwise):
+        failures = [truth for truth in seen if type(truth) is tuple]
+        if way == "lazy":
+            ranks = [truth for truth in seen if truth == decides or type(truth) is tuple]
+        elif way == "eager":
+            ranks = failures + [truth for truth in seen if truth == decides]
+        else:
+            ranks = [truth for truth in seen if truth == decides] + failures
+        return (ranks + [truth for truth in seen if truth == "unknown"] + [otherwise])[0]
+
+    def case(self, place, part, listed, protected):
+        eager = self.ways[place][0] == "eager"
+        branch, failed = {}, {}
+        passed = listed
+        many = len(part[1])
+        for i in range(many):
+            inside = self.visit(place + (2 * i,), part[1][i][0], passed, protected)
+            for k in passed:
+                if k not in branch and k not in failed:
+                    if inside[k] == "yes":
+                        branch[k] = i
+                    elif type(inside[k]) is tuple:
+                        failed[k] = inside[k]
+            if not eager:
+                passed = [k for k in passed if k not in branch and k not in failed]
+        told = dict(failed)
+        for i in range(many + 1):
+            own = [k for k in listed if k not in failed and branch.get(k, many) == i]
+            index, chosen = (2 * i + 1, part[1][i][1]) if i < many else (2 * many, part[2])
+            inside = self.visit(place + (index,), chosen, listed if eager else own, protected)
+            told.update({k: inside[k] for k in own})
+        return told
+
+
+def random_plan(chance, names, literals, depth):
+    """A random plan with its ways at all places."""
+    condition = Condition(Columns(*names), random_part(chance, names, literals, depth))
+    ways = random_ways(chance, condition)
+    places = condition.places()
+    hoisted = chance.sample(places, min(len(places), chance.choice([0, 0, 1, 2, 3])))
+    return Plan(condition, ways, hoisted=tuple(hoisted)), ways
+
+
+def run_by_rules(plan, ways, size, limit, rows):
+    """The pairs that the batches of a table give, worked out for the lists of rows of each batch."""
+    pairs, many = [], 0
+    for start in range(0, len(rows), size):
+        batch = Batch(plan.condition.part, ways, plan.hoisted, rows[start:start + size])
+        found, error = batch.result()
+        if error is not None:
+            return pairs + [([], (start + error[0], error[1]))]
+        found = [start + index for index in found][:None if limit is None else limit - many]
+        many += len(found)
+        pairs.append((found, None))
+        if many == limit:
+            break
+    return pairs
+
+
+def joined(pairs):
+    """The result of a run whose batches give these pairs."""
+    selected = [index for found, _ in pairs for index in found]
+    return selected, pairs[-1][1] if pairs else None

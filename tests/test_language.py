@@ -25,6 +25,15 @@ INTERFACE = {
         "Condition": ("__init__", "places", "literals", "codes", "__getitem__", "__contains__", "__eq__"),
     },
     "truths.py": {"truth": (), "truth_rows": (), "implied": (), "truth_difference": ()},
+    "plans.py": {
+        "Plan": ("__init__", "way", "with_way", "with_hoisted", "__eq__"), "plain": (), "walk": (), "stops": (),
+    },
+    "fates.py": {"fate": (), "fates_by_form": (), "fates": (), "fate_rows": ()},
+    "engines.py": {"Engine": ("__init__", "run"), "batches": ()},
+    "feeds.py": {
+        "Feed": ("__init__", "__call__", "add_all", "end", "__len__", "__enter__", "__exit__"),
+        "in_block": (), "trial": (),
+    },
 }
 
 
@@ -101,6 +110,16 @@ class TestLanguage(unittest.TestCase):
             self.assertTrue(free, sorted(imports))
             for name in free:
                 del imports[name]
+
+    def test_no_method_has_the_name_of_an_attribute(self):
+        methods, attributes = set(), set()
+        for text in sources().values():
+            for node in ast.walk(ast.parse(text)):
+                if isinstance(node, ast.ClassDef):
+                    methods.update(self.defined(node))
+                elif isinstance(node, ast.Attribute) and isinstance(node.ctx, ast.Store):
+                    attributes.add(node.attr)
+        self.assertEqual(methods & attributes, set())
 
     def test_each_import_is_used(self):
         for name, text in sources().items():

@@ -1,0 +1,108 @@
+"""The visit of all places of a plan for a batch that consists of one row."""
+
+from batchtests.truthwords import (
+    FAILS, NO, UNKNOWN, YES, deciding, exchanged, is_failure, literal_truth, missing_truth,
+)
+
+
+class Visit:
+    """What one row, alone in its batch, meets at the places of a plan.
+
+    The visit goes on where a batch stops: whatever comes later cannot change what came before,
+    so the first stop that is noted is where the batch really stops.
+    """
+
+    def __init__(self, plan, single):
+        self.plan = plan
+        self.single = single
+        self.noted = []
+        self.told = self.truth_at((), True, False)
+
+    def truth_at(self, place, passed, protected):
+        """Return the truth of the row at the place, or None if the list there does not have it."""
+        part = self.plan.condition[place]
+        given = passed or place in self.plan.hoisted
+        found = self.truth_of(part, place, given, protected)
+        return found if given else None
+
+    def truth_of(self, part, place, given, protected):
+        """Visit the part and all parts inside it, and return the truth of a row that is given."""
+        word = part[0]
+        if word == "atmost":
+            return literal_truth(part[1:], self.single)
+        if word == "missing":
+            return missing_truth(part[1], self.single)
+        if word == "not":
+            return exchanged(self.truth_at((*place, 0), given, protected))
+        if word == "must":
+            return self.must_truth(part, place, given, protected)
+        if word == "case":
+            return self.case_truth(part, place, given, protected)
+        return self.joined_truth(part, place, given, protected)
+
+    def must_truth(self, part, place, given, protected):
+        """Visit a "must"."""
+        _, code, literal, _ = part
+        required = literal_truth(literal, self.single)
+        if required == NO and given and not protected:
+            self.noted.append((place, code))
+        found = self.truth_at((*place, 0), given and required == YES, protected)
+        if required == NO:
+            return (FAILS, code)
+        return found if required == YES else UNKNOWN
+
+    def joined_truth(self, part, place, given, protected):
+        """Visit an "and" or an "or"."""
+        way, order = self.plan.way(place)
+        decides = deciding(part[0])
+        truths = []
+        for index in order:
+            passed = given and (way != "lazy" or is_open(truths, decides))
+            found = self.truth_at((*place, index), passed, protected or way == "deferred")
+            if passed:
+                truths.append(found)
+        told = truth_together(truths, decides, way)
+        if way == "deferred" and is_failure(told) and not protected:
+            self.noted.append((place, told[1]))
+        return told
+
+    def case_truth(self, part, place, given, protected):
+        """Visit a "case"."""
+        eager = self.plan.way(place)[0] == "eager"
+        last = 2 * len(part[1])
+        truths = []
+        for index in range(0, last, 2):
+            passed = given and (eager or is_open(truths, YES))
+            truths.append(self.truth_at((*place, index), passed, protected))
+        chosen, told = choice(truths)
+        for index in list(range(1, last, 2)) + [last]:
+            found = self.truth_at((*place, index), given and (eager or index == chosen), protected)
+            if index == chosen:
+                told = found
+        return told
+
+
+def is_open(truths, decides):
+    """Tell whether a lazy part goes on after these truths."""
+    return not any([one == decides or is_failure(one) for one in truths])
+
+
+def truth_together(truths, decides, way):
+    """Return the truth of an "and" or an "or" whose parts gave these truths in its order."""
+    failures = [one for one in truths if is_failure(one)]
+    # A lazy part has no truth after one that decides or fails, so one of the two is there at most.
+    if decides in truths and (way == "deferred" or not failures):
+        return decides
+    if failures:
+        return failures[0]
+    return UNKNOWN if UNKNOWN in truths else exchanged(decides)
+
+
+def choice(truths):
+    """Return the index of the part that the tests choose and None, or None and their failure."""
+    for index, one in enumerate(truths):
+        if one == YES:
+            return (2 * index + 1, None)
+        if is_failure(one):
+            return (None, one)
+    return (2 * len(truths), None)
