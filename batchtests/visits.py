@@ -19,14 +19,9 @@ class Visit:
         self.told = self.truth_at((), True, False)
 
     def truth_at(self, place, passed, protected):
-        """Return the truth of the row at the place, or None if the list there does not have it."""
+        """Visit the place and all inside it, and return the truth there of a row that is in its list."""
         part = self.plan.condition[place]
         given = passed or place in self.plan.hoisted
-        found = self.truth_of(part, place, given, protected)
-        return found if given else None
-
-    def truth_of(self, part, place, given, protected):
-        """Visit the part and all parts inside it, and return the truth of a row that is given."""
         word = part[0]
         if word == "atmost":
             return literal_truth(part[1:], self.single)
