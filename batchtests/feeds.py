@@ -56,7 +56,7 @@ class Feed:
         return found_or_failed(found, error)
 
     def __len__(self):
-        return len(range(self.state.added))
+        return len(list(range(self.state.added)))
 
     def __enter__(self):
         self.block = Block(self.state, self.block)

@@ -129,6 +129,20 @@ class TestLanguage(unittest.TestCase):
                 if isinstance(node, ast.ImportFrom):
                     self.assertLessEqual({alias.name for alias in node.names}, used, name)
 
+    def test_lengths_are_those_of_lists(self):
+        # Rule L28: each "return" of "__len__" is len(..) or a literal number, and never len(range(..)).
+        lengths = []
+        for name, text in sources().items():
+            for node in ast.walk(ast.parse(text)):
+                if isinstance(node, ast.FunctionDef) and node.name == "__len__":
+                    returns = [inside.value for inside in ast.walk(node) if isinstance(inside, ast.Return)]
+                    self.assertTrue(returns and isinstance(node.body[-1], ast.Return), name)
+                    lengths.extend((name, value) for value in returns)
+        self.assertTrue(lengths)
+        for name, value in lengths:
+            if not (isinstance(value, ast.Constant) and isinstance(value.value, int)):
+                self.assertRegex(ast.unparse(value), r"\Alen\((?!range\().*\)\Z", name)
+
     def defined(self, tree):
         found = {}
         for node in tree.body:
