@@ -5,7 +5,7 @@ from batchtests.parts import codes_in
 from batchtests.pieces import cells, row_in
 from batchtests.plans import stops
 from batchtests.rowsets import set_of
-from batchtests.truthwords import FAILS, YES
+from batchtests.truthwords import FAILS, YES, literal_truth, missing_truth
 from batchtests.visits import Visit
 
 SELECTED = ("selected",)
@@ -19,7 +19,15 @@ def fate(plan, row):
 
 def fate_of(plan, row):
     """Return the fate of a checked row."""
-    visit = Visit(plan, row)
+    answers = {name: missing_truth(name, row) for name in row}
+    for literal in plan.tests:
+        answers[literal] = literal_truth(literal, row)
+    return fate_when(plan, answers)
+
+
+def fate_when(plan, answers):
+    """Return the fate of each row for which the tests have these answers."""
+    visit = Visit(plan, answers)
     if visit.noted:
         place, code = visit.noted[0]
         return (FAILS, place, code)
@@ -52,5 +60,5 @@ def fate_rows(plan, wanted):
 def cells_with_fates(plan):
     """Return pairs of a piece and the fate that all its rows have, with all rows."""
     columns = plan.columns
-    pieces = cells(columns, plan.condition.literals())
+    pieces = cells(columns, plan.tests)
     return [(piece, fate_of(plan, row_in(columns, piece))) for piece in pieces]

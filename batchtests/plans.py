@@ -17,6 +17,7 @@ class Plan:
         check_hoisted(condition, hoisted)
         self.condition = condition
         self.columns = condition.columns
+        self.tests = condition.literals()
         self.ways = full_ways(condition, given)
         self.hoisted = tuple(sorted(hoisted))
 

@@ -1,20 +1,21 @@
 """The visit of all places of a plan for a batch that consists of one row."""
 
-from batchtests.truthwords import (
-    FAILS, NO, UNKNOWN, YES, deciding, exchanged, is_failure, literal_truth, missing_truth,
-)
+from batchtests.truthwords import FAILS, NO, UNKNOWN, YES, deciding, exchanged, is_failure
 
 
 class Visit:
     """What one row, alone in its batch, meets at the places of a plan.
 
+    Of the row only the answers are needed: a dict with the truth of each literal of the plan as
+    a test, and for each column the truth of the test whether its value is missing.
+
     The visit goes on where a batch stops: whatever comes later cannot change what came before,
     so the first stop that is noted is where the batch really stops.
     """
 
-    def __init__(self, plan, single):
+    def __init__(self, plan, answers):
         self.plan = plan
-        self.single = single
+        self.answers = answers
         self.noted = []
         self.told = self.truth_at((), True, False)
 
@@ -24,9 +25,9 @@ class Visit:
         given = passed or place in self.plan.hoisted
         word = part[0]
         if word == "atmost":
-            return literal_truth(part[1:], self.single)
+            return self.answers[part[1:]]
         if word == "missing":
-            return missing_truth(part[1], self.single)
+            return self.answers[part[1]]
         if word == "not":
             return exchanged(self.truth_at((*place, 0), given, protected))
         if word == "must":
@@ -38,7 +39,7 @@ class Visit:
     def must_truth(self, part, place, given, protected):
         """Visit a "must"."""
         _, code, literal, _ = part
-        required = literal_truth(literal, self.single)
+        required = self.answers[literal]
         if required == NO and given and not protected:
             self.noted.append((place, code))
         found = self.truth_at((*place, 0), given and required == YES, protected)

@@ -270,3 +270,131 @@ def joined(pairs):
     """The result of a run whose batches give these pairs."""
     selected = [index for found, _ in pairs for index in found]
     return selected, pairs[-1][1] if pairs else None
+
+
+def ways_of(plan):
+    """The ways and orders of a plan at all places."""
+    return {place: plan.way(place) for place in joined_places(plan.condition)}
+
+
+def joint_rows(one, other, values):
+    """One row for each joint fate that a row with some of the values has by the rules."""
+    names = one.columns.names
+    literals = one.condition.literals() + other.condition.literals()
+    found = {}
+    for row in rows_by_signature(names, literals, values):
+        pair = tuple(Batch(plan.condition.part, ways_of(plan), plan.hoisted, [row]).fate() for plan in (one, other))
+        found.setdefault(pair, row)
+    return found
+
+
+def run_of_fates(order, size, limit, met):
+    """The result of a run of rows with these fates, where the places stop in this order."""
+    selected = []
+    for start in range(0, len(met), size):
+        batch = list(enumerate(met))[start:start + size]
+        failed = [(order.index(one[1]), index, one[2]) for index, one in batch if one[0] == "fails"]
+        if failed:
+            return selected, min(failed)[1:]
+        selected += [index for index, one in batch if one == ("selected",)]
+        if limit is not None and len(selected) >= limit:
+            return selected[:limit], None
+    return selected, None
+
+
+def runs_differ(level, first, second):
+    """Whether two results differ by the level."""
+    (selected, error), (others, fault) = first, second
+    one_fails = (error is None) != (fault is None)
+    if level == "rows":
+        return one_fails or (error is None and selected != others)
+    if level == "output":
+        return one_fails or selected != others
+    return (selected, error) != (others, fault)
+
+
+class Settled(Batch):
+    """A batch of one row of which only the missing columns and the answers to the tests are known."""
+
+    def test(self, literal, k):
+        return self.rows[k][literal]
+
+
+def settled_fates(plan, gone, tested):
+    """The fates of a plan for all that a branch leaves open, where columns and literals have these truths."""
+    names, literals = plan.columns.names, plan.condition.literals()
+    found = []
+    for missing in product([True, False], repeat=len(names)):
+        row = {name: None if absent else 0 for name, absent in zip(names, missing)}
+        if any((row[name] is None) != gone[name] for name in gone):
+            continue
+        for truths in product([True, False], repeat=len(literals)):
+            taken = {literal: tested.get(literal, truth) for literal, truth in zip(literals, truths)}
+            answers = dict(row)
+            for literal in literals:
+                absent = any(term and row[term] is None for term in literal[:2])
+                answers[literal] = "unknown" if absent else "yes" if taken[literal] else "no"
+            one = Settled(plan.condition.part, ways_of(plan), plan.hoisted, [answers]).fate()
+            if one not in found:
+                found.append(one)
+    return found
+
+
+def tree_closes(names, wants, tree, gone=None, tested=None):
+    """Whether the tree closes for the wants, by the words of points 10.2 to 10.5."""
+    gone, tested = gone or {}, tested or {}
+    if type(tree) is not tuple or not tree:
+        return False
+    word, *rest = tree
+    if word == "missing" and len(rest) == 3:
+        name = rest[0]
+        if type(name) is not str or name not in list(names) or name in gone:
+            return False
+        return (tree_closes(names, wants, rest[1], {**gone, name: True}, tested)
+                and tree_closes(names, wants, rest[2], {**gone, name: False}, tested))
+    if word == "test" and len(rest) == 3:
+        literal = rest[0]
+        if type(literal) is not tuple or len(literal) != 3 or type(literal[2]) is not int:
+            return False
+        present = [""] + [name for name in gone if not gone[name]]
+        if [term for term in literal[:2] if type(term) is not str or term not in present]:
+            return False
+        if literal[0] == literal[1] or literal in tested:
+            return False
+        return (tree_closes(names, wants, rest[1], gone, {**tested, literal: True})
+                and tree_closes(names, wants, rest[2], gone, {**tested, literal: False}))
+    if word == "ring" and len(rest) == 1:
+        steps = [(a, b, n) if truth else (b, a, -n - 1) for (a, b, n), truth in tested.items()]
+        return is_ring_of(steps, rest[0])
+    if tree == ("settled",):
+        return any(not set(settled_fates(plan, gone, tested)) & set(fates) for plan, fates in wants)
+    return False
+
+
+def is_ring_of(steps, indexes):
+    """Whether the object is a tuple of indexes of steps that lead back to where they began, with a sum below 0."""
+    if type(indexes) is not tuple or not indexes:
+        return False
+    if any(type(index) is not int or index not in range(len(steps)) for index in indexes):
+        return False
+    at, total = steps[indexes[0]][0], 0
+    for index in indexes:
+        a, b, n = steps[index]
+        if a != at:
+            return False
+        at, total = b, total + n
+    return at == steps[indexes[0]][0] and total < 0
+
+
+def full_tree(plans, names, end, gone=None, tested=None):
+    """The tree that asks all columns and then all literals, with what `end` gives at each end."""
+    gone, tested = gone or {}, tested or {}
+    for name in names:
+        if name not in gone:
+            sides = [full_tree(plans, names, end, {**gone, name: truth}, tested) for truth in (True, False)]
+            return ("missing", name, *sides)
+    for literal in [literal for plan in plans for literal in plan.condition.literals()]:
+        if literal not in tested and not any(term and gone[term] for term in literal[:2]):
+            sides = [full_tree(plans, names, end, gone, {**tested, literal: truth}) for truth in (True, False)]
+            return ("test", literal, *sides)
+    return end(gone, tested)

@@ -34,6 +34,9 @@ INTERFACE = {
         "Feed": ("__init__", "__call__", "add_all", "end", "__len__", "__enter__", "__exit__"),
         "in_block": (), "trial": (),
     },
+    "compare.py": {"difference": (), "joint_fates": (), "unlike_row": ()},
+    "trees.py": {"closes": ()},
+    "papers.py": {"row_for": (), "paper": (), "certificate": (), "certificate_fault": ()},
 }
 
 
