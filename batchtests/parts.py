@@ -78,6 +78,29 @@ def inner_parts(part):
     return []
 
 
+def with_inner(part, index, inside):
+    """Return the part with another part directly inside it at the index."""
+    word = part[0]
+    if word in ("and", "or"):
+        return (word, (*part[1][:index], inside, *part[1][index + 1:]))
+    if word == "case":
+        return case_of([*inner_parts(part)[:index], inside, *inner_parts(part)[index + 1:]])
+    # A "not" and a "must" end with the only part inside them.
+    return (*part[:-1], inside)
+
+
+def case_of(inside):
+    """Return the "case" with these parts directly inside it."""
+    *tested, last = inside
+    return ("case", tuple(zip(tested[0::2], tested[1::2])), last)
+
+
+def without_inner(part, index):
+    """Return the "and" or "or" without the part directly inside it at the index."""
+    word, parts = part
+    return (word, parts[:index] + parts[index + 1:])
+
+
 def part_at(part, place):
     """Return the part at the place, or None if the object is not a place of the part."""
     if not isinstance(place, tuple):

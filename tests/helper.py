@@ -1,9 +1,10 @@
 """What several tests need: objects of many kinds, and answers found without the program."""
 
-from itertools import product
+from itertools import combinations, product
 
 from batchtests.columns import Columns
 from batchtests.conditions import Condition
+from batchtests.engines import Engine
 from batchtests.errors import BatchError, NoRow
 from batchtests.plans import Plan
 from batchtests.rowsets import RowSet
@@ -398,3 +399,45 @@ def full_tree(plans, names, end, gone=None, tested=None):
             sides = [full_tree(plans, names, end, gone, {**tested, literal: truth}) for truth in (True, False)]
             return ("test", literal, *sides)
     return end(gone, tested)
+
+
+def subsets(places):
+    """All sets of some of the places, as ascending tuples."""
+    places = sorted(places)
+    return [tuple(chosen) for many in range(len(places) + 1) for chosen in combinations(places, many)]
+
+
+def changed_engine(engine, ways):
+    """The engine whose plan has these pairs of a way and an order at these places."""
+    plan = engine.plan
+    return Engine(Plan(plan.condition, {**ways_of(plan), **ways}, hoisted=plan.hoisted), engine.size, engine.limit)
+
+
+def random_joined(chance, literals, depth):
+    """A random part over "a" and "b" in which orders and ways often matter."""
+    literal = chance.choice(literals)
+    chosen = chance.random()
+    if depth == 0 or chosen < 0.25:
+        test = ("atmost", *literal) if chance.random() < 0.85 else ("missing", chance.choice("ab"))
+        if chance.random() < 0.45:
+            return ("must", chance.choice("xy"), chance.choice(literals), test)
+        return test
+    inner = [random_joined(chance, literals, depth - 1) for _ in range(chance.choice([2, 2, 3]))]
+    if chosen < 0.35:
+        return ("case", ((inner[0], inner[1]),), inner[-1])
+    if chosen < 0.4:
+        return ("not", inner[0])
+    return (chance.choice(["and", "or"]), tuple(inner))
+
+
+def random_small_plan(chance, literals, sizes, calm=0.5):
+    """A random plan over "a" and "b" with one of these numbers of parts that have ways."""
+    while True:
+        condition = Condition(Columns("a", "b"), random_joined(chance, literals, 2))
+        if len(joined_places(condition)) in sizes and condition.codes() and len(condition.places()) <= 20:
+            ways = random_ways(chance, condition)
+            if chance.random() < calm:
+                ways = {place: ("lazy", order) for place, (_, order) in ways.items()}
+            places = condition.places()
+            hoisted = tuple(chance.sample(places, chance.choice([0, 0, 1])))
+            return Plan(condition, ways, hoisted=hoisted)

@@ -37,6 +37,10 @@ INTERFACE = {
     "compare.py": {"difference": (), "joint_fates": (), "unlike_row": ()},
     "trees.py": {"closes": ()},
     "papers.py": {"row_for": (), "paper": (), "certificate": (), "certificate_fault": ()},
+    "eagerness.py": {"eager_sets": ()},
+    "orders.py": {"alike_orders": (), "any_order": ()},
+    "repairs.py": {"least_deferred": (), "needless": (), "shorter": ()},
+    "texts.py": {"shown": (), "read": ()},
 }
 
 
