@@ -18,8 +18,10 @@ class Branch:
 
     def steps(self):
         """Return the list of the steps that the tests give."""
-        tests = self.tested.items()
-        return [literal if answer == YES else opposite(literal) for literal, answer in tests]
+        return [
+            literal if answer == YES else opposite(literal)
+            for literal, answer in self.tested.items()
+        ]
 
 
 def sides_of(branch, word, asked):

@@ -8,8 +8,8 @@ from batchtests.plans import Plan
 def with_ways(engine, ways):
     """Return the engine with these pairs of a way and an order, by their places."""
     plan = engine.plan
-    changed = Plan(plan.condition, {**plan.ways, **ways}, hoisted=plan.hoisted)
-    return Engine(changed, engine.size, engine.limit)
+    changed = {place: ways.get(place, before) for place, before in plan.ways.items()}
+    return Engine(Plan(plan.condition, changed, hoisted=plan.hoisted), engine.size, engine.limit)
 
 
 def with_way_at(engine, places, way):

@@ -27,7 +27,8 @@ def joint_fates(one, other):
 def unlike_row(one, other):
     """Return a row whose fates by two plans are of unlike kinds, or None."""
     check_alike(one, other)
-    for (f, g), row in rows_by_joint_fate(one, other).items():
+    rows = rows_by_joint_fate(one, other)
+    for (f, g), row in rows.items():
         if f[0] != g[0]:
             return row
     return None

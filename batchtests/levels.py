@@ -3,9 +3,8 @@
 from batchtests.errors import BadLevel
 
 ROWS = "rows"
-OUTPUT = "output"
 ERROR = "error"
-LEVELS = (ROWS, OUTPUT, ERROR)
+LEVELS = ("rows", "output", "error")
 
 
 def check_level(level):

@@ -106,6 +106,18 @@ class TestEagerSets(unittest.TestCase):
                         self.assertFalse(set(one) < set(other))
         self.assertTrue(found)
 
+    def test_the_list_ascends(self):
+        # The set with one place alone comes last, although its place is not the last one.
+        near = ("a", "b", 1)
+        inner = ("case", ((("atmost", "b", "", -1), ("must", "y", near, ("missing", "b"))),),
+                 ("must", "x", ("b", "", 0), ("atmost", *near)))
+        first = ("and", (("must", "y", near, ("atmost", "b", "", 0)), ("atmost", "b", "", 0)))
+        condition = Condition(AB, ("case", ((first, inner),), inner))
+        engine = Engine(Plan(condition, {(0,): ("lazy", (1, 0))}), 1)
+        found = eager_sets(engine, "error")
+        self.assertEqual(found, greatest(engine, "error"))
+        self.assertEqual(found, [((), (2,)), ((1,),)])
+
     def test_the_levels(self):
         # What is alike by a narrower level is alike by the wider one.
         chance = random.Random(133)

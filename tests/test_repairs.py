@@ -87,6 +87,17 @@ class TestLeastDeferred(unittest.TestCase):
         engine = Engine(Plan(two, {(): ("lazy", (1, 0))}), 1)
         self.assertEqual([least_deferred(engine, level) for level in LEVELS], [[()], [()], []])
 
+    def test_the_list_ascends(self):
+        # The set with one place alone comes last, although its place is not the last one.
+        low, near = ("a", "", -1), ("a", "b", 1)
+        first = ("and", (("atmost", *low), ("must", "y", low, ("atmost", *near))))
+        second = ("and", (("atmost", *low), ("must", "y", near, ("atmost", *low))))
+        condition = Condition(AB, ("and", (first, second)))
+        engine = Engine(Plan(condition, {(0,): ("lazy", (1, 0)), (1,): ("lazy", (1, 0))}), 1)
+        found = least_deferred(engine, "rows")
+        self.assertEqual(found, least(engine, "rows"))
+        self.assertEqual(found, [((), (1,)), ((0,),)])
+
     def test_a_case_stays(self):
         part = ("case", ((YES, ("missing", "b")),), ("must", "x", ("", "a", -1), YES))
         condition = Condition(AB, part)
